@@ -2,8 +2,11 @@
 package accrue
 
 import (
+	"slices"
+
 	"accrue/api"
 	"accrue/calendar"
+	"accrue/owed"
 )
 
 // Day tells a date's day (P3).
@@ -34,23 +37,70 @@ func Weight(basis int, from int, to int) (int, api.Errno) {
 	return calendar.Weight(basis, from, to), api.OK
 }
 
-// Loan is a loan, with its events and its book.
-type Loan struct{}
+// Loan is a loan, with its events.
+type Loan struct {
+	terms api.Terms
+	// events stand in the order in which they happen.
+	events []api.Event
+	// now is what Balance tells; its Day is the loan's day.
+	now api.Balance
+}
 
 // Open opens a loan (P4).
-func Open(t api.Terms) (*Loan, api.Errno) { return nil, api.OK }
+func Open(t api.Terms) (*Loan, api.Errno) {
+	if !rightTerms(t) {
+		return nil, api.ErrTerms
+	}
+	return &Loan{terms: t, now: owed.First(t).Balance(t.Start)}, api.OK
+}
 
 // Add tells of an event (P5).
-func (l *Loan) Add(e api.Event) api.Errno { return api.OK }
+func (l *Loan) Add(e api.Event) api.Errno {
+	if fault := eventFault(l.terms, e); fault != api.OK {
+		return fault
+	}
+	if len(l.events) >= api.MaxEvents {
+		return api.ErrMany
+	}
+	if placeOfSeq(l.events, e.Seq) >= 0 {
+		return api.ErrSeq
+	}
+	place, _ := slices.BinarySearchFunc(l.events, e, compareEvents)
+	l.events = slices.Insert(l.events, place, e)
+	return api.OK
+}
 
 // Cancel takes an event back (P5).
-func (l *Loan) Cancel(seq int) api.Errno { return api.OK }
+func (l *Loan) Cancel(seq int) api.Errno {
+	place := placeOfSeq(l.events, seq)
+	if place < 0 {
+		return api.ErrNone
+	}
+	l.events = slices.Delete(l.events, place, place+1)
+	return api.OK
+}
 
-// Run brings the loan to a day (P6, P7).
-func (l *Loan) Run(day int) api.Errno { return api.OK }
+// Run brings the loan to a day (P6, P7). It goes through all days from Start
+// on: events of the days that were gone through may have come or gone since.
+func (l *Loan) Run(day int) api.Errno {
+	if day < l.now.Day || day > l.terms.Start+api.MaxSpan {
+		return api.ErrDay
+	}
+	state := owed.First(l.terms)
+	ahead := l.events
+	for d := l.terms.Start; d < day; d++ {
+		count := countOfDay(ahead, d)
+		state, _ = state.Pass(l.terms, d, ahead[:count])
+		ahead = ahead[count:]
+	}
+	l.now = state.Balance(day)
+	return api.OK
+}
 
 // Balance tells what the loan owes (P6).
-func (l *Loan) Balance() api.Balance { return api.Balance{} }
+func (l *Loan) Balance() api.Balance {
+	return l.now
+}
 
 // Book tells the entries that were written (P7).
 func (l *Loan) Book(from int) []api.Entry { return nil }

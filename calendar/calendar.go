@@ -74,3 +74,8 @@ func civilOf(day int) civil {
 	}
 	return civil{year, month, rest + 1}
 }
+
+// DayOfMonth tells which day of its month a day is.
+func DayOfMonth(day int) int {
+	return civilOf(day).day
+}

@@ -7,6 +7,14 @@ func IsBasis(basis int) bool {
 	return basis == api.Actual365 || basis == api.Actual360 || basis == api.Thirty360
 }
 
+// Year is what a year counts by a basis.
+func Year(basis int) int {
+	if basis == api.Actual365 {
+		return 365
+	}
+	return 360
+}
+
 // Weight is the sum of the weights of the days from from on, ahead of to.
 // The weights are differences from one day to the next, so the sum is the
 // difference of the ends. To may be the day behind MaxDay.

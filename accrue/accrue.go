@@ -6,6 +6,7 @@ import (
 
 	"accrue/api"
 	"accrue/calendar"
+	"accrue/ledger"
 	"accrue/owed"
 )
 
@@ -37,13 +38,14 @@ func Weight(basis int, from int, to int) (int, api.Errno) {
 	return calendar.Weight(basis, from, to), api.OK
 }
 
-// Loan is a loan, with its events.
+// Loan is a loan, with its events and its book.
 type Loan struct {
 	terms api.Terms
 	// events stand in the order in which they happen.
 	events []api.Event
 	// now is what Balance tells; its Day is the loan's day.
-	now api.Balance
+	now  api.Balance
+	book *ledger.Book
 }
 
 // Open opens a loan (P4).
@@ -51,7 +53,7 @@ func Open(t api.Terms) (*Loan, api.Errno) {
 	if !rightTerms(t) {
 		return nil, api.ErrTerms
 	}
-	return &Loan{terms: t, now: owed.First(t).Balance(t.Start)}, api.OK
+	return &Loan{terms: t, now: owed.First(t).Balance(t.Start), book: ledger.New()}, api.OK
 }
 
 // Add tells of an event (P5).
@@ -90,7 +92,9 @@ func (l *Loan) Run(day int) api.Errno {
 	ahead := l.events
 	for d := l.terms.Start; d < day; d++ {
 		count := countOfDay(ahead, d)
-		state, _ = state.Pass(l.terms, d, ahead[:count])
+		var amounts owed.Amounts
+		state, amounts = state.Pass(l.terms, d, ahead[:count])
+		l.book.PutRight(d, amounts)
 		ahead = ahead[count:]
 	}
 	l.now = state.Balance(day)
@@ -103,10 +107,15 @@ func (l *Loan) Balance() api.Balance {
 }
 
 // Book tells the entries that were written (P7).
-func (l *Loan) Book(from int) []api.Entry { return nil }
+func (l *Loan) Book(from int) []api.Entry {
+	return l.book.From(from)
+}
 
 // Accounts tells what the book makes of the accounts (P7).
-func (l *Loan) Accounts() []int { return nil }
+func (l *Loan) Accounts() []int {
+	accounts := l.book.Accounts()
+	return accounts[:]
+}
 
 // Save tells the loan as text (P8).
 func (l *Loan) Save() string { return "" }

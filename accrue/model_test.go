@@ -20,6 +20,8 @@ type model struct {
 	credit                                     int
 	holidays                                   []api.Event
 	interestSum, fineSum                       *big.Int
+	// entries are the amounts of the day that was gone through last, by kinds.
+	entries map[int]int
 }
 
 func newModel(terms api.Terms) *model {
@@ -69,35 +71,44 @@ func (m *model) happen(e api.Event) {
 	switch e.Kind {
 	case 1:
 		m.principal += e.Amount
+		m.entries[1] += e.Amount
 	case 2:
 		m.rate = e.Amount
 	case 3:
 		m.holidays = append(m.holidays, e)
 	case 4:
 		m.principal += m.interest
+		m.entries[4] += m.interest
 		m.interest = 0
 	case 5:
 		rest := e.Amount
-		for _, owed := range []*int{&m.fine, &m.late, &m.due, &m.interest, &m.principal} {
+		for i, owed := range []*int{&m.fine, &m.late, &m.due, &m.interest, &m.principal} {
 			if *owed >= rest {
+				m.entries[5+i] += rest
 				*owed -= rest
 				rest = 0
 			} else {
+				m.entries[5+i] += *owed
 				rest -= *owed
 				*owed = 0
 			}
 		}
 		m.credit += rest
+		m.entries[10] += rest
 	}
 }
 
 func (m *model) pass(day int, events []api.Event) {
+	m.entries = map[int]int{}
 	if day == m.terms.Start {
 		m.principal += m.terms.Principal
+		m.entries[1] += m.terms.Principal
 	}
 	if modelDate(day).Day() == m.terms.Due && day != m.terms.Start && !m.inHoliday(day) {
 		m.late += m.due
+		m.entries[2] = m.due
 		m.due = m.interest
+		m.entries[3] = m.interest
 		m.interest = 0
 	}
 	var today []api.Event
@@ -115,8 +126,10 @@ func (m *model) pass(day int, events []api.Event) {
 	for _, e := range today {
 		m.happen(e)
 	}
-	m.interest += m.more(m.interestSum, m.principal, m.rate, m.weight(day))
-	m.fine += m.more(m.fineSum, m.late, m.terms.Fine, m.weight(day))
+	m.entries[11] = m.more(m.interestSum, m.principal, m.rate, m.weight(day))
+	m.interest += m.entries[11]
+	m.entries[12] = m.more(m.fineSum, m.late, m.terms.Fine, m.weight(day))
+	m.fine += m.entries[12]
 }
 
 // modelBalances tells the balances at Start and all days up to the given one.

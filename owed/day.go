@@ -31,8 +31,7 @@ func (s State) Pass(t api.Terms, day int, events []api.Event) (State, Amounts) {
 // enter is the one way in which what is owed changes, so that entries and
 // state can't come to differ.
 func (p *passage) enter(kind, amount int) {
-	p.state.accounts[moves[kind].to] += amount
-	p.state.accounts[moves[kind].from] -= amount
+	p.state.accounts.Move(kind, amount)
 	p.amounts[kind] += amount
 }
 

@@ -2,6 +2,15 @@ package owed
 
 import "accrue/api"
 
+// Accounts are the accounts of a loan, by their numbers.
+type Accounts [api.Fines + 1]int
+
+// Move adds an entry's amount to one account and takes it from another.
+func (a *Accounts) Move(kind, amount int) {
+	a[moves[kind].to] += amount
+	a[moves[kind].from] -= amount
+}
+
 // move names the accounts that an entry's amount is added to and taken from.
 type move struct {
 	to, from int

@@ -6,7 +6,7 @@ import "accrue/api"
 // State is what a loan owes in the end of a day, and whatever else the days
 // behind it go by. It has no pointers: a copy is a state of its own.
 type State struct {
-	accounts [api.Fines + 1]int
+	accounts Accounts
 	rate     int
 	// free is the first day behind the holidays that were begun so far.
 	free int

@@ -7,6 +7,7 @@ import (
 	"accrue/api"
 	"accrue/calendar"
 	"accrue/ledger"
+	"accrue/lines"
 	"accrue/owed"
 )
 
@@ -85,7 +86,7 @@ func (l *Loan) Cancel(seq int) api.Errno {
 // Run brings the loan to a day (P6, P7). It goes through all days from Start
 // on: events of the days that were gone through may have come or gone since.
 func (l *Loan) Run(day int) api.Errno {
-	if day < l.now.Day || day > l.terms.Start+api.MaxSpan {
+	if day < l.now.Day || !span(l.terms).allow(day) {
 		return api.ErrDay
 	}
 	state := owed.First(l.terms)
@@ -118,7 +119,27 @@ func (l *Loan) Accounts() []int {
 }
 
 // Save tells the loan as text (P8).
-func (l *Loan) Save() string { return "" }
+func (l *Loan) Save() string {
+	var w lines.Writer
+	w.Write(loanWord, termsNumbers(&l.terms)...)
+	for _, e := range l.events {
+		w.Write(eventWord, eventNumbers(&e)...)
+	}
+	w.Write(atWord, &l.now.Day)
+	w.Write(nowWord, owedNumbers(&l.now)...)
+	for _, e := range l.book.From(0) {
+		w.Write(entryWord, entryNumbers(&e)...)
+	}
+	w.Write(endWord)
+	return w.Text()
+}
 
-// Load makes a loan of a text (P8).
-func Load(text string) (*Loan, api.Errno) { return nil, api.OK }
+// Load makes a loan of a text (P8). Whether what it owes and its book agree
+// with its events is not asked: the next Run goes through all days anew.
+func Load(text string) (*Loan, api.Errno) {
+	l, ok := readLoan(lines.NewReader(text))
+	if !ok {
+		return nil, api.ErrText
+	}
+	return l, api.OK
+}

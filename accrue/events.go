@@ -22,7 +22,7 @@ func eventFault(t api.Terms, e api.Event) api.Errno {
 	if e.Kind < api.Draw || e.Kind > api.Pay {
 		return api.ErrKind
 	}
-	if e.Day < t.Start || e.Day > t.Start+api.MaxSpan {
+	if !span(t).allow(e.Day) {
 		return api.ErrDay
 	}
 	if !amountLimits[e.Kind].allow(e.Amount) {

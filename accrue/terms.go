@@ -22,3 +22,8 @@ func rightTerms(t api.Terms) bool {
 		calendar.IsBasis(t.Basis) &&
 		limits{1, 28}.allow(t.Due)
 }
+
+// span has the days of a loan.
+func span(t api.Terms) limits {
+	return limits{t.Start, t.Start + api.MaxSpan}
+}

@@ -31,14 +31,14 @@ func (b *Book) PutRight(day int, amounts owed.Amounts) {
 		if there == amounts[kind] {
 			continue
 		}
-		b.write(api.Entry{Day: day, Kind: kind, Amount: -there})
-		b.write(api.Entry{Day: day, Kind: kind, Amount: amounts[kind]})
+		b.Write(api.Entry{Day: day, Kind: kind, Amount: -there})
+		b.Write(api.Entry{Day: day, Kind: kind, Amount: amounts[kind]})
 	}
 }
 
-// write is the one way into the book, so that entries and sums can't come to
-// differ. What says nothing is not written.
-func (b *Book) write(e api.Entry) {
+// Write is the one way into the book, so that entries and sums can't come to
+// differ. What says nothing is not written. (A sum may wrap round.)
+func (b *Book) Write(e api.Entry) {
 	if e.Amount == 0 {
 		return
 	}

@@ -54,7 +54,7 @@ func TestSumsThatWrapRound(t *testing.T) {
 	} {
 		b := New()
 		for _, amount := range c.there {
-			b.write(api.Entry{Day: 7, Kind: api.Lent, Amount: amount})
+			b.Write(api.Entry{Day: 7, Kind: api.Lent, Amount: amount})
 		}
 		b.PutRight(7, owed.Amounts{})
 		var back []int
@@ -76,8 +76,8 @@ func TestTheMoveOfEachKind(t *testing.T) {
 		1: {1, 0}, 2: {4, 3}, 3: {3, 2}, 4: {1, 2}, 5: {0, 5}, 6: {0, 4}, 7: {0, 3}, 8: {0, 2}, 9: {0, 1}, 10: {0, 6}, 11: {2, 7}, 12: {5, 8},
 	} {
 		b := New()
-		b.write(api.Entry{Day: 7, Kind: kind, Amount: 9})
-		b.write(api.Entry{Day: 8, Kind: kind, Amount: -2})
+		b.Write(api.Entry{Day: 7, Kind: kind, Amount: 9})
+		b.Write(api.Entry{Day: 8, Kind: kind, Amount: -2})
 		var want owed.Accounts
 		want[c[0]], want[c[1]] = 7, -7
 		if got := b.Accounts(); got != want {
